@@ -1,0 +1,1 @@
+"""Orders that never show told little patterns."""
