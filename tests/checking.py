@@ -1,5 +1,6 @@
 """What the tests share: strict comparisons, the right errors, and wrong values."""
 
+import time
 import unittest
 
 NO_INTEGERS = (None, True, False, "1", "", (1,), [1], {}, 1.0)
@@ -9,6 +10,43 @@ NO_ORDERS = (
     (0,), (2,), (-1,), (1, 1), (1, 3), (0, 1), (2, 3), (1, 2, 2), (True,), (False,), (True, 2), (1, 2, True),
     (1.0,), (1.0, 2), ("1",), (None,), ((1,),), (1, None), (1, "2"), ([1],), (1, {}),
 )
+NO_LISTS = (
+    None, True, False, 0, 1, "", "12", b"", {}, {1: 2}, [], [(1,)], {(1,)}, (1,), (None,), ("1",), ("",), ((),), ([],),
+    ([1],), ((1, 2), [2, 1]), ((1,), ()), ((0,),), ((2,),), ((1, 1),), ((1, 3),), ((True,),), ((1, True),), ((1.0,),),
+    (((1,),),), ((1, 2), None), ((1, 2), "21"), ((1, 2), 1), ((2, 1), (-1,)), ((1, None),), (({},),), ((1, [2]),),
+)
+NO_FORMS = (
+    None, True, False, 0, 1, "", "0", b"\x00", {}, {0}, [], [0], (), (0, 0), (0, 0, 1), (1, 0, 0), (0, 1, 0, 0),
+    (2,), (0, 2), (1, 1), (1, 0, 1), (-1,), (0, -1), (1, 3), (False,), (True,), (0, True), (0.0,), (0, 1.0), ("0",),
+    (None,), ((0,),), ([0],), (0, 1, None), ({},), (0, (1,)),
+)
+NO_LETTERS = (
+    None, True, False, 0, 1, "", "10", "1m", b"\x01\x00", {}, {1, 0}, [], [1, 0], (), (1,), (1, 0, 0), (0, 0), (-1, 0),
+    (1, -1), (1, 4), (1, None), (None, 0), (True, 0), (1, True), (1, False), (1.0, 0), (1, 0.0), ("1", 0), (1, "0"),
+    ((1, 0),), ((1,), 0), ([1], 0), (1, {}),
+)
+NO_WORDS = tuple((letter,) for letter in NO_LETTERS) + tuple(((1, 0), letter) for letter in NO_LETTERS) + (
+    None, True, False, 0, 1, "", "1m", b"", {}, [], [(1, 0)], {(1, 0)}, (1, 0), (1, 3),
+)
+NO_KINDS = (
+    None, True, False, 0, 1, -1, "", "11", b"\x01\x01", {}, {1, -1}, [], [1, 1], (), (1,), (1, 1, 1), (0, 1), (1, 0),
+    (2, 1), (1, -2), (True, 1), (1, True), (1.0, 1), (-1, -1.0), ("1", "1"), (None, None), ((1, 1),), ([1], 1),
+)
+ROW = (((1, 0), 0), ((1, 3), 1))
+NO_MACHINES = (
+    None, True, False, 0, 1, "", "ab", b"ab", {}, [], (), ((),), ((), ()), ((), (0,)), (((),),), (((),), (), ()),
+    [((),), ()], ([()], ()), (([],), ()), (((),), []), (((),), [0]), (((),), {}), (((),), None), (((),), 0),
+    (((),), ""), (((),), "0"), (None, ()), (0, ()), ("ab", ()), ((None,), ()), ((0,), ()), (("",), ()), (("ab",), ()),
+    (((),), (1,)), (((),), (-1,)), (((),), (True,)), (((),), (False,)), (((),), (None,)), (((),), ((0,),)),
+    (((),), (0, 0)), (((), ()), (1, 0)), (((), ()), (1, 1)), (((), ()), (0, 1, 2)), (((), ()), ([],)),
+    ((ROW,), ()), ((ROW, (((1, 0), 2),)), (0,)), ((ROW, (((1, 0), -1),)), ()), ((ROW, (((1, 0), True),)), ()),
+    ((ROW, (((1, 0), None),)), ()), ((ROW, (((1, 0), (1,)),)), ()), ((ROW, (((1, 0), 0.0),)), ()),
+    ((ROW, (((1, 0),),)), ()), ((ROW, (((1, 0), 0, 0),)), ()), ((ROW, ([(1, 0), 0],)), ()), ((ROW, [((1, 0), 0)]), ()),
+    ((ROW, (([1, 0], 0),)), ()), ((ROW, ((1, 0),)), ()), ((ROW, (None,)), ()), ((ROW, ("ab",)), ()), ((ROW, ((),)), ()),
+    ((ROW[::-1], ()), ()), (((ROW[0], ROW[0]), ()), ()), ((ROW[:1] + (((1, 0), 1),), ()), ()),
+    ((ROW + (((1, 2), 0),), ()), ()), ((ROW, ()), (0, 1, 1)), [(ROW, ()), (1,)], ([ROW, ()], (1,)),
+    ((list(ROW), ()), ()),
+) + tuple((((), ((letter, 0),)), (0,)) for letter in NO_LETTERS)
 
 
 class Checked(unittest.TestCase):
@@ -30,3 +68,10 @@ class Checked(unittest.TestCase):
             call(*told)
         self.assertTrue(type(caught.exception) is error, type(caught.exception))
         self.same(caught.exception.value, value)
+
+    def soon(self, call, *told):
+        """What is returned, if it does not take long: far more than it should, as machines differ."""
+        begin = time.perf_counter()
+        found = call(*told)
+        self.assertLess(time.perf_counter() - begin, 5)
+        return found

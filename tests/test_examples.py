@@ -19,8 +19,35 @@ BLOCKS = """
 >>> [tree((2, 1)), blocks((2, 1, 3))]
 [('skew', (('one',), ('one',))), [(0, 1), (0, 2), (0, 3), (1, 2), (2, 3)]]
 """
+LISTS = """
+>>> from bannedorders.lists import is_finite, is_summed, joined, least, lets, lies_within, parting
+>>> [least(((2, 3, 1), (1, 3, 4, 2), (2, 3, 1))), lets(((2, 3, 1),), (3, 1, 2)), lies_within(((1, 2),), ((2, 3, 1),))]
+[((2, 3, 1),), True, True]
+>>> [parting(((1, 2),), ((2, 1),)), joined(((1, 2),), ((2, 1),)), is_finite(((1, 2, 3), (2, 1))), is_summed(((2, 1),))]
+[(1, 2), ((1, 3, 2), (2, 1, 3), (2, 3, 1), (3, 1, 2)), True, True]
+"""
+SLOTS = """
+>>> from bannedorders.slots import filling, is_open, led, letters, order_of, put, word_of
+>>> [put((0,), (1, 0)), word_of((2, 1, 3)), order_of(((1, 2), (1, 1), (1, 3))), led(((1, 0), (2, 3)))]
+[(0, 1, 0), ((1, 0), (1, 3), (1, 3)), (2, 3, 1), (0, 1, 2)]
+>>> [is_open(((2, 3, 1),), (0, 1, 0)), filling(((1, 2), ), (0, 1)), filling(((1, 2),), (1, 0))]
+[True, (2, 1), None]
+"""
+ALTERNATIONS = """
+>>> from bannedorders.alternations import alternation, endless, most_slots, stopped
+>>> [alternation((1, -1), 3), stopped(((2, 3, 1),)), endless(((2, 3, 1),)), most_slots(((2, 3, 1), (1, 3, 2)))]
+[(1, 6, 2, 5, 3, 4), ((2, 3, 1), (2, 3, 1), None, (2, 3, 1)), (1, -1), 2]
+"""
+MACHINES = """
+>>> from bannedorders.machines import machine, spells, words
+>>> rising = machine(((2, 1),))
+>>> [rising, spells(rising, ((1, 1), (1, 3))), words(rising, 3)]
+[(((((1, 1), 0), ((1, 3), 1)), ()), (1,)), True, [((1, 1), (1, 1), (1, 3))]]
+"""
 # A later section uses the names of those ahead of it.
-SECTIONS = (("patterns", PATTERNS, 4), ("blocks", BLOCKS, 3))
+SECTIONS = (
+    ("patterns", PATTERNS, 4), ("blocks", BLOCKS, 3), ("lists", LISTS, 3), ("slots", SLOTS, 3),
+    ("alternations", ALTERNATIONS, 2), ("machines", MACHINES, 3))
 
 
 class Examples(unittest.TestCase):

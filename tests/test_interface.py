@@ -17,7 +17,31 @@ LISTED = {
         "blocks": "order", "is_simple": "order", "put_together": "order orders", "tree": "order",
         "from_tree": "tree",
     },
+    "lists": {
+        "is_list": "told", "lets": "forbidden order", "least": "forbidden", "lies_within": "one other",
+        "same": "one other", "parting": "one other", "met": "one other", "joined": "one other",
+        "let_of": "forbidden n", "is_finite": "forbidden", "turned_list": "forbidden", "mirrored_list": "forbidden",
+        "inverse_list": "forbidden", "is_summed": "forbidden", "is_skew_summed": "forbidden",
+    },
+    "slots": {
+        "is_form": "told", "slots": "form", "put": "form letter", "letters": "form", "led": "word",
+        "word_of": "order", "order_of": "word", "widest": "order", "is_open": "forbidden form",
+        "filling": "forbidden form",
+    },
+    "alternations": {
+        "alternation": "kind n", "stops": "forbidden kind", "stopped": "forbidden", "endless": "forbidden",
+        "most_slots": "forbidden",
+    },
+    "machines": {
+        "is_machine": "told", "spells": "machine word", "machine": "forbidden", "least_machine": "machine",
+        "same_words": "one other", "met_machine": "one other", "joined_machine": "one other",
+        "less_machine": "one other", "words": "machine n",
+    },
 }
+# Machines of the words of rising orders, of one letter or more, and of the word of one thing.
+RISING = (((((1, 1), 0), ((1, 3), 1)), ()), (1,))
+SINGLE = (((((1, 3), 1),), ()), (1,))
+NEVER = (((),), ())
 # Arguments that are right, and what is returned for them.
 CALLS = (
     ("patterns", "is_order", ((1, 2),), True),
@@ -40,6 +64,45 @@ CALLS = (
     ("blocks", "put_together", ((2, 1), ((1,), (1, 2))), (3, 1, 2)),
     ("blocks", "tree", ((2, 1),), ("skew", (("one",), ("one",)))),
     ("blocks", "from_tree", (("skew", (("one",), ("one",))),), (2, 1)),
+    ("lists", "is_list", (((1, 2),),), True),
+    ("lists", "lets", (((2, 1),), (1, 3, 2)), False),
+    ("lists", "least", (((1, 3, 2), (2, 1)),), ((2, 1),)),
+    ("lists", "lies_within", (((1, 2),), ((2, 3, 1),)), True),
+    ("lists", "same", (((2, 1),), ((1, 2),)), False),
+    ("lists", "parting", (((2, 1),), ((2, 1), (1, 2, 3))), (1, 2, 3)),
+    ("lists", "met", (((1, 2, 3),), ((2, 1),)), ((2, 1), (1, 2, 3))),
+    ("lists", "joined", (((2, 1),), ((2, 3, 1),)), ((2, 3, 1),)),
+    ("lists", "let_of", (((2, 1),), 2), [(1, 2)]),
+    ("lists", "is_finite", (((2, 1),),), False),
+    ("lists", "turned_list", (((2, 3, 1),),), ((1, 3, 2),)),
+    ("lists", "mirrored_list", (((2, 3, 1),),), ((2, 1, 3),)),
+    ("lists", "inverse_list", (((2, 3, 1),),), ((3, 1, 2),)),
+    ("lists", "is_summed", (((2, 1),),), True),
+    ("lists", "is_skew_summed", (((2, 1),),), False),
+    ("slots", "is_form", ((0, 1, 0),), True),
+    ("slots", "slots", ((0, 1, 0),), 2),
+    ("slots", "put", ((0, 1, 0), (2, 1)), (0, 1, 2, 0)),
+    ("slots", "letters", ((1, 0),), [(1, 0), (1, 1), (1, 2), (1, 3)]),
+    ("slots", "led", (((1, 2), (1, 3)),), (2, 1)),
+    ("slots", "word_of", ((2, 1),), ((1, 2), (1, 3))),
+    ("slots", "order_of", (((1, 2), (1, 3)),), (2, 1)),
+    ("slots", "widest", ((2, 1, 3),), 2),
+    ("slots", "is_open", (((1, 2),), (1, 0)), False),
+    ("slots", "filling", (((1, 2),), (0, 1)), (2, 1)),
+    ("alternations", "alternation", ((1, -1), 2), (1, 4, 2, 3)),
+    ("alternations", "stops", (((2, 3, 1),), (1, -1)), False),
+    ("alternations", "stopped", (((2, 3, 1),),), ((2, 3, 1), (2, 3, 1), None, (2, 3, 1))),
+    ("alternations", "endless", (((2, 3, 1),),), (1, -1)),
+    ("alternations", "most_slots", (((2, 3, 1), (1, 3, 2)),), 2),
+    ("machines", "is_machine", (RISING,), True),
+    ("machines", "spells", (RISING, ((1, 3),)), True),
+    ("machines", "machine", (((2, 1),),), RISING),
+    ("machines", "least_machine", (RISING,), RISING),
+    ("machines", "same_words", (RISING, SINGLE), ((1, 1), (1, 3))),
+    ("machines", "met_machine", (RISING, SINGLE), SINGLE),
+    ("machines", "joined_machine", (RISING, SINGLE), RISING),
+    ("machines", "less_machine", (SINGLE, RISING), NEVER),
+    ("machines", "words", (RISING, 2), [((1, 1), (1, 3))]),
 )
 
 
@@ -81,7 +144,8 @@ class Interface(Checked):
     def test_empty_lists_are_new(self):
         for section, name, told in (
                 ("patterns", "places", ((1,), (1, 2))), ("patterns", "parts_of", ((1,), 2)),
-                ("blocks", "blocks", ((),))):
+                ("blocks", "blocks", ((),)), ("lists", "let_of", (((1,),), 1)), ("slots", "letters", ((1,),)),
+                ("machines", "words", (NEVER, 0))):
             function = found(section, name)
             function(*told).append("more")
             self.same(function(*told), [])
