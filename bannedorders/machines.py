@@ -173,11 +173,16 @@ def open_row(threats, view):
     return [(letter, other) for letter, other in row if threats.is_open(other)]
 
 
-def machine(forbidden):
-    """Return the least machine of the whole words of the orders, but (), that a list lets."""
+def check_has_machine(forbidden):
+    """Raise InvalidList for what is no list, NoMachine for a list that does not stop all four kinds."""
     kind = endless(forbidden)
     if kind is not None:
         raise NoMachine(kind)
+
+
+def machine(forbidden):
+    """Return the least machine of the whole words of the orders, but (), that a list lets."""
+    check_has_machine(forbidden)
     threats = Threats(forbidden)
     views, rows = explored(START, lambda view: open_row(threats, view))
     return least_of(rows, {at: True for at, view in enumerate(views) if view[0] == 0})

@@ -115,11 +115,8 @@ class Threats:
 
     def all_behind(self, index, letter):
         """Return the indexes of the threats that come of the one with an index by a letter."""
-        key = (index, letter)
-        if key not in self.behind:
-            found = threats_behind(self.told[index], letter)
-            self.behind[key] = tuple([self.index_of(threat) for threat in found])
-        return self.behind[key]
+        found = threats_behind(self.told[index], letter)
+        return tuple([self.index_of(threat) for threat in found])
 
     def all_begun(self, wide, letter):
         """Return the indexes of the threats that a letter begins in a form with so many slots."""
@@ -134,8 +131,11 @@ class Threats:
         wide, held = view
         begun = self.all_begun(wide, letter)
         seen = set(begun)
+        behind = self.behind.setdefault(letter, {})
         for index in held:
-            for other in self.all_behind(index, letter):
+            if index not in behind:
+                behind[index] = self.all_behind(index, letter)
+            for other in behind[index]:
                 seen.add(other)
         if SHOWN in seen:
             return None

@@ -48,6 +48,15 @@ NO_MACHINES = (
     ((list(ROW), ()), ()),
 ) + tuple((((), ((letter, 0),)), (0,)) for letter in NO_LETTERS)
 
+NO_TAPES = (
+    None, True, False, 0, 1, "", "01", b"\x00\x01", {}, {0, 1}, [], [0], [0, 1], (2,), (-1,), (0, 2), (True,), (False,),
+    (0, True), (1, False), (0.0,), (1, 1.0), ("0",), (None,), ((0,),), ([1],), (0, {}), (1, 0, 10 ** 30),
+)
+NO_SORTERS = (
+    None, True, False, 0, 1, "", "Stack", "stack ", "stac", "stacks", "queue", "sort", b"stack", {}, {"stack"}, [],
+    ["stack"], (), ("stack",), ("bubble", "stack"), ([],), 1.0,
+)
+
 
 class Checked(unittest.TestCase):
 

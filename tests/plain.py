@@ -1,5 +1,6 @@
 """What the document says, done as plainly as its words say it, to compare the program with."""
 
+from fractions import Fraction
 from functools import lru_cache
 from itertools import combinations, permutations
 
@@ -167,3 +168,128 @@ def is_least(machine):
             break
         apart |= more
     return met == list(range(len(rows))) and useful | {0} == set(met) and len(apart) == len(pairs)
+
+
+def counts(forbidden, most):
+    return [len(lot(forbidden, n)) for n in range(most + 1)]
+
+
+def solved(rows, right):
+    """The one solution of equations, None if there is none or more than one."""
+    rows = [[Fraction(number) for number in row] + [Fraction(last)] for row, last in zip(rows, right)]
+    wide = len(rows[0]) - 1
+    for at in range(wide):
+        found = next((k for k in range(at, len(rows)) if rows[k][at] != 0), None)
+        if found is None:
+            return None
+        rows[at], rows[found] = rows[found], rows[at]
+        rows[at] = [number / rows[at][at] for number in rows[at]]
+        for k in range(len(rows)):
+            if k != at and rows[k][at] != 0:
+                rows[k] = [number - rows[k][at] * other for number, other in zip(rows[k], rows[at])]
+    return None if any(row[wide] != 0 for row in rows[wide:]) else [row[wide] for row in rows[:wide]]
+
+
+def rule(terms):
+    """The shortest rule of a sequence of which far more terms are told than it has numbers."""
+    for m in range(1, len(terms) // 2):
+        found = solved([terms[n - m:n][::-1] for n in range(m, len(terms))], terms[m:])
+        if found is not None:
+            return found
+    return None
+
+
+def divided(one, other):
+    """What is left if a polynomial is divided by another one, both highest power first, without leading noughts."""
+    left = [Fraction(number) for number in one]
+    while len(left) >= len(other):
+        times = left[0] / other[0]
+        left = [number - times * less for number, less in zip(left, list(other) + [0] * len(left))][1:]
+    while left and left[0] == 0:
+        left = left[1:]
+    return left
+
+
+def common(one, other):
+    """The greatest common divisor of two polynomials, its first coefficient 1."""
+    while other:
+        one, other = other, divided(one, other)
+    return [Fraction(number) / one[0] for number in one]
+
+
+def derived(one):
+    return [number * (len(one) - 1 - at) for at, number in enumerate(one[:-1])]
+
+
+def times(one, other):
+    found = [0] * (len(one) + len(other) - 1)
+    for at, number in enumerate(one):
+        for place, factor in enumerate(other):
+            found[at + place] += number * factor
+    return found
+
+
+def value(one, x):
+    found = Fraction(0)
+    for number in one:
+        found = found * x + number
+    return found
+
+
+def greatest_root(shape):
+    """The greatest absolute value of a root, nearly, if none stands twice: as Durand and Kerner find all at once."""
+    wide = 1 + max(abs(number) for number in shape)
+    found = [wide * (0.4 + 0.9j) ** at / abs(0.4 + 0.9j) ** at for at in range(len(shape) - 1)]
+    for _ in range(2000):
+        last = list(found)
+        for at, root in enumerate(found):
+            top = 0
+            for number in shape:
+                top = top * root + number
+            bottom = shape[0]
+            for place, other in enumerate(found):
+                bottom *= root - other if place != at else 1
+            found[at] = root - top / bottom
+        if max(abs(root - other) for root, other in zip(found, last)) < 1e-14:
+            break
+    return max(abs(root) for root in found)
+
+
+def ranked(forbidden, n):
+    """The orders of n things that are let, in the sequence of their words."""
+    return sorted(lot(forbidden, n), key=lambda order: ways_to(n)[order][0][0] if order else ())
+
+
+def draw(many, tape):
+    """(number, read) as [12] says it, None if the tape does not suffice."""
+    bits = 0
+    while 2 ** bits < many:
+        bits += 1
+    rest, read = tape, 0
+    while len(rest) >= bits:
+        number = sum(2 ** (bits - 1 - at) * bit for at, bit in enumerate(rest[:bits]))
+        rest, read = rest[bits:], read + bits
+        if number < many:
+            return number, read
+    return None
+
+
+def made(sorter, order):
+    """What a sorter makes, told otherwise than by its steps: only the queues are run as they stand."""
+    if sorter == "popper":
+        begins = [at for at in range(len(order)) if at == 0 or order[at - 1] < order[at]] + [len(order)]
+        return tuple(number for begin, end in zip(begins, begins[1:]) for number in order[begin:end][::-1])
+    if sorter == "queues":
+        rows = ([], [])
+        for number in order:
+            fits = [row for row in rows if row == [] or row[-1] < number]
+            (fits or rows)[0].append(number)
+        left = ()
+        while rows[0] and rows[1]:
+            left += (min(rows, key=lambda row: row[0]).pop(0),)
+        return left + tuple(rows[0] + rows[1])
+    if order == ():
+        return ()
+    at = order.index(max(order))
+    behind = order[at + 1:] if sorter == "bubble" else made(sorter, order[at + 1:])
+    return made(sorter, order[:at]) + behind + order[at:at + 1]

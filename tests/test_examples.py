@@ -44,10 +44,32 @@ MACHINES = """
 >>> [rising, spells(rising, ((1, 1), (1, 3))), words(rising, 3)]
 [(((((1, 1), 0), ((1, 3), 1)), ()), (1,)), True, [((1, 1), (1, 1), (1, 3))]]
 """
+COUNTS = """
+>>> from bannedorders.counts import count, counts, degree, rule
+>>> two = ((2, 3, 1), (3, 1, 2))
+>>> [counts(two, 5), count(two, 60) == 2 ** 59, rule(two), degree(two), degree(((2, 1),))]
+[[1, 1, 2, 4, 8, 16], True, ((1, 1), ((2, 1), (0, 1))), None, 0]
+"""
+RATES = """
+>>> from bannedorders.rates import faster, rate
+>>> [rate(two), rate(((2, 1),)), faster(two, ((2, 1),))]
+[((1, -2, 0), (2, 1), (2, 1)), ((1, -1), (1, 1), (1, 1)), 1]
+"""
+RANKS = """
+>>> from bannedorders.ranks import drawn, next_order, nth, place_of
+>>> [[nth(two, 3, i) for i in range(4)], place_of(two, (2, 1, 3)), next_order(two, (2, 1, 3)), drawn(two, 3, (1, 1, 0)), drawn(two, 3, (1,))]
+[[(2, 1, 3), (1, 2, 3), (1, 3, 2), (3, 2, 1)], 0, (1, 2, 3), ((3, 2, 1), 2), None]
+"""
+SORTERS = """
+>>> from bannedorders.sorters import least_unsorted, made, passes, sorts
+>>> [made('stack', (2, 3, 1)), made('bubble', (3, 1, 2)), sorts('popper', (3, 2, 1)), passes('bubble', (2, 3, 1)), least_unsorted('queues', 4)]
+[(2, 1, 3), (1, 2, 3), True, 2, [(3, 2, 1)]]
+"""
 # A later section uses the names of those ahead of it.
 SECTIONS = (
     ("patterns", PATTERNS, 4), ("blocks", BLOCKS, 3), ("lists", LISTS, 3), ("slots", SLOTS, 3),
-    ("alternations", ALTERNATIONS, 2), ("machines", MACHINES, 3))
+    ("alternations", ALTERNATIONS, 2), ("machines", MACHINES, 3), ("counts", COUNTS, 3), ("rates", RATES, 2),
+    ("ranks", RANKS, 2), ("sorters", SORTERS, 2))
 
 
 class Examples(unittest.TestCase):

@@ -37,6 +37,16 @@ LISTED = {
         "same_words": "one other", "met_machine": "one other", "joined_machine": "one other",
         "less_machine": "one other", "words": "machine n",
     },
+    "counts": {"count": "forbidden n", "counts": "forbidden n", "rule": "forbidden", "degree": "forbidden"},
+    "rates": {"rate": "forbidden", "faster": "one other"},
+    "ranks": {
+        "nth": "forbidden n i", "place_of": "forbidden order", "next_order": "forbidden order",
+        "drawn": "forbidden n tape",
+    },
+    "sorters": {
+        "made": "sorter order", "sorts": "sorter order", "list_of": "sorter", "passes": "sorter order",
+        "least_unsorted": "sorter n",
+    },
 }
 # Machines of the words of rising orders, of one letter or more, and of the word of one thing.
 RISING = (((((1, 1), 0), ((1, 3), 1)), ()), (1,))
@@ -103,6 +113,21 @@ CALLS = (
     ("machines", "joined_machine", (RISING, SINGLE), RISING),
     ("machines", "less_machine", (SINGLE, RISING), NEVER),
     ("machines", "words", (RISING, 2), [((1, 1), (1, 3))]),
+    ("counts", "count", (((2, 3, 1), (3, 1, 2)), 4), 8),
+    ("counts", "counts", (((2, 1),), 2), [1, 1, 1]),
+    ("counts", "rule", (((2, 1),),), ((1,), ((1, 1),))),
+    ("counts", "degree", (((2, 1),),), 0),
+    ("rates", "rate", (((2, 1),),), ((1, -1), (1, 1), (1, 1))),
+    ("rates", "faster", (((1,),), ((2, 1),)), -1),
+    ("ranks", "nth", (((2, 1),), 3, 0), (1, 2, 3)),
+    ("ranks", "place_of", (((2, 3, 1), (3, 1, 2)), (1, 3, 2)), 2),
+    ("ranks", "next_order", (((2, 3, 1), (3, 1, 2)), (1, 3, 2)), (3, 2, 1)),
+    ("ranks", "drawn", (((2, 3, 1), (3, 1, 2)), 3, (1, 0, 1)), ((1, 3, 2), 2)),
+    ("sorters", "made", ("bubble", (2, 3, 1)), (2, 1, 3)),
+    ("sorters", "sorts", ("popper", (3, 2, 1)), True),
+    ("sorters", "list_of", ("queues",), ((3, 2, 1),)),
+    ("sorters", "passes", ("stack", (2, 3, 1)), 2),
+    ("sorters", "least_unsorted", ("bubble", 3), [(2, 3, 1), (3, 2, 1)]),
 )
 
 
@@ -145,7 +170,7 @@ class Interface(Checked):
         for section, name, told in (
                 ("patterns", "places", ((1,), (1, 2))), ("patterns", "parts_of", ((1,), 2)),
                 ("blocks", "blocks", ((),)), ("lists", "let_of", (((1,),), 1)), ("slots", "letters", ((1,),)),
-                ("machines", "words", (NEVER, 0))):
+                ("machines", "words", (NEVER, 0)), ("sorters", "least_unsorted", ("stack", 2))):
             function = found(section, name)
             function(*told).append("more")
             self.same(function(*told), [])

@@ -6,6 +6,7 @@ from itertools import product
 
 import plain
 from checking import NO_INTEGERS, NO_LETTERS, NO_LISTS, NO_MACHINES, NO_WORDS, ROW, Checked
+from samples import LARGE, LISTS
 
 from bannedorders.alternations import KINDS, endless
 from bannedorders.errors import InvalidList, InvalidMachine, InvalidNumber, InvalidWord, NoMachine
@@ -33,20 +34,6 @@ MACHINES = (
     ((((C, 1),), ((C, 0),)), (0, 1)), ((((A, 1), (B, 2)), ((C, 0),), ((C, 0),)), (0,)),
     ((((A, 1), (B, 2)), ((C, 0),), ((B, 0),)), (0,)), ((((A, 1), (B, 1), (C, 1)), ((A, 0),)), (0, 1)),
     ((((A, 1),), ((A, 2),), ((A, 3),), ((A, 1),)), (0, 2)), ((((B, 1),), ((A, 1), (B, 0), ((7, 2), 1))), (1,)),
-)
-LISTS = (
-    ((1,),), ((1, 2),), ((2, 1),), ((1, 2), (2, 1)), ((2, 1), (1,), (2, 1)), ((2, 3, 1), (1, 3, 2)),
-    ((1, 3, 2), (2, 3, 1), (1, 3, 2), (1, 2, 4, 3)), ((2, 3, 1), (3, 1, 2)), ((1, 2, 3), (3, 2, 1)),
-    ((3, 2, 1), (1, 2, 3, 4)), ((2, 1, 3), (3, 1, 2)), ((2, 1, 3), (4, 1, 3, 2)), ((2, 1, 4, 3), (1, 2)),
-    ((2, 3, 1), (1, 2, 5, 3, 4)), ((1, 2, 3), (1, 3, 2), (3, 1, 2), (3, 2, 1)), ((3, 1, 2), (1, 2, 3, 4)),
-    ((2, 1, 3), (2, 3, 4, 1), (3, 4, 2, 1), (1, 5, 2, 3, 4)), ((1, 2, 4, 3), (2, 3, 4, 1), (2, 4, 3, 1), (4, 1, 3, 2)),
-    ((2, 1, 3, 4), (4, 3, 1, 2), (1, 5, 3, 2, 4), (3, 2, 5, 4, 1)), tuple(plain.orders_of(3)), ((3, 2, 1), (2, 3, 1)),
-)
-# Of 100, 98 and 87 states, with up to six patterns of five things and forms of up to seven slots.
-LARGE = (
-    (((2, 1, 4, 3), (1, 5, 2, 3, 4), (2, 5, 3, 1, 4), (3, 5, 4, 1, 2), (4, 3, 2, 1, 5)), 100),
-    (((4, 1, 3, 2), (1, 2, 3, 4, 5), (3, 4, 1, 2, 5)), 98),
-    (((1, 2, 3, 4), (1, 4, 2, 3), (5, 3, 2, 1, 4)), 87),
 )
 LETTERS = tuple((slot, way) for slot in (1, 2, 3) for way in (0, 1, 2, 3))
 
