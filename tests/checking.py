@@ -57,6 +57,25 @@ NO_SORTERS = (
     ["stack"], (), ("stack",), ("bubble", "stack"), ([],), 1.0,
 )
 
+LEAF = ("list", ((2, 1),))
+NO_SAYINGS = (
+    None, True, False, 0, 1, "", "list", "(list [2 1])", b"list", {}, {"sorted"}, [], (), ((),), (None,), ("",), (1, 2),
+    ("list",), ("sorted",), ("turned",), ("both",), ("list", ((2, 1),), ((1, 2),)), ("sorted", "stack", "stack"),
+    ("turned", LEAF, LEAF), ("mirrored", LEAF, LEAF), ("inverse", LEAF, LEAF), ("both", LEAF), ("either", LEAF),
+    ("both", LEAF, LEAF, LEAF), ("either", LEAF, LEAF, LEAF), ("turned", ()), ("turned", None), ("turned", "stack"),
+    ("turned", ((2, 1),)), ("both", LEAF, None), ("both", None, LEAF), ("either", LEAF, ("sorted",)), ("not", LEAF),
+    ("Turned", LEAF), ("turned ", LEAF), ("turn", LEAF), ("", LEAF), (b"turned", LEAF), (None, LEAF), (True, LEAF),
+    (("turned",), LEAF), (["turned"], LEAF), ({}, LEAF), ["turned", LEAF], ("turned", list(LEAF)), ["list", ((2, 1),)],
+    ["sorted", "stack"], ("sorted", "Stack"), ("sorted", ""), ("sorted", None), ("sorted", ("stack",)),
+    ("sorted", ["stack"]), ("sorted", LEAF), ("list", LEAF), ("list", "-"), ("list", [(2, 1)]), ("list", (2, 1)),
+    ("stack",), ("stack", (2, 1)), (LEAF,), (LEAF, LEAF), ("turned", ("turned", ("turned", ("list", ((2, 2),))))),
+    ("both", ("sorted", "stack"), ("turned", ["sorted", "stack"])), ("either", ("sorted", "stack"), ("list", ((),))),
+) + tuple(("list", told) for told in NO_LISTS) + tuple(("both", LEAF, ("sorted", told)) for told in NO_SORTERS)
+NO_NAMES = (
+    None, True, False, 0, 1, "", "abcdefghi", "A", "aB", "a1", "1", "a b", " a", "a ", "a\n", "\n", "a-b", "a_b", "-",
+    "\u00e4", "\u00df", b"a", {}, {"a"}, [], ["a"], (), ("a",),
+)
+
 
 class Checked(unittest.TestCase):
 

@@ -1,5 +1,6 @@
 """What the document says, done as plainly as its words say it, to compare the program with."""
 
+import re
 from fractions import Fraction
 from functools import lru_cache
 from itertools import combinations, permutations
@@ -293,3 +294,119 @@ def made(sorter, order):
     at = order.index(max(order))
     behind = order[at + 1:] if sorter == "bubble" else made(sorter, order[at + 1:])
     return made(sorter, order[:at]) + behind + order[at:at + 1]
+
+
+def changed(word, order):
+    n = len(order)
+    if word == "turned":
+        return tuple(order[n - 1 - at] for at in range(n))
+    if word == "mirrored":
+        return tuple(n + 1 - number for number in order)
+    return tuple(sorted(range(1, n + 1), key=lambda place: order[place - 1]))
+
+
+@lru_cache(None)
+def saying_lot(saying, n):
+    """The orders of n things that a saying means, by its parts."""
+    word, parts = saying[0], saying[1:]
+    if word == "list":
+        return frozenset(lot(parts[0], n))
+    if word == "sorted":
+        return frozenset(order for order in orders_of(n) if made(parts[0], order) == tuple(range(1, n + 1)))
+    lots = [saying_lot(part, n) for part in parts]
+    if word == "both":
+        return lots[0] & lots[1]
+    if word == "either":
+        return lots[0] | lots[1]
+    return frozenset(changed(word, order) for order in lots[0])
+
+
+def least_without(is_in, most):
+    """The orders of up to so many things that are not in, though all that they show else are."""
+    found = []
+    for order in orders_to(most):
+        if not is_in(order) and not any(one in patterns_in(order) for one in found):
+            found.append(order)
+    return tuple(found)
+
+
+NUMBER = "(?:0|[1-9][0-9]{0,8})"
+LETTER = "(?:[1-9][0-9]{0,8}[mlrf])"
+
+
+def row(of, gap=" "):
+    return f"(?:{of}(?:{gap}{of})*)"
+
+
+def read_order(line):
+    if line == "-":
+        return ()
+    if not re.fullmatch(row(NUMBER), line):
+        return None
+    found = tuple(int(number) for number in line.split())
+    return found if set(found) == set(range(1, len(found) + 1)) and len(set(found)) == len(found) else None
+
+
+def read_list(line):
+    found = () if line == "-" else tuple(read_order(part) for part in line.split(", "))
+    return None if None in found or () in found else found
+
+
+def read_word(line):
+    if not re.fullmatch(f"-|{row(LETTER)}", line):
+        return None
+    return tuple((int(part[:-1]), "mlrf".index(part[-1])) for part in re.findall(LETTER, line))
+
+
+def read_row(line, k):
+    found = re.fullmatch(f"{k}( end)? : (-|{row(LETTER + ' ' + NUMBER, ', ')})", line)
+    if not found:
+        return None
+    steps = re.findall(f"({LETTER}) ({NUMBER})", found[2])
+    return tuple((read_word(letter)[0], int(state)) for letter, state in steps), found[1] is not None
+
+
+def read_saying(line):
+    """Told by what a text can begin with: what stands behind it is read on."""
+    found = saying_ahead(line)
+    return found[0] if found and found[1] == "" else None
+
+
+def saying_ahead(line):
+    leaf = re.match(r"\(list \[([^]\[()]*)\]\)", line)
+    if leaf:
+        patterns = read_list(leaf[1])
+        return None if patterns is None else (("list", patterns), line[leaf.end():])
+    leaf = re.match(r"\(sorted (stack|popper|queues|bubble)\)", line)
+    if leaf:
+        return ("sorted", leaf[1]), line[leaf.end():]
+    begin = re.match(r"\((turned|mirrored|inverse|both|either)(?= )", line)
+    if not begin:
+        return None
+    told, line = (begin[1],), line[begin.end():]
+    for _ in range(2 if begin[1] in ("both", "either") else 1):
+        found = saying_ahead(line[1:]) if line[:1] == " " else None
+        if not found:
+            return None
+        told, line = told + (found[0],), found[1]
+    return (told, line[1:]) if line[:1] == ")" else None
+
+
+def read(reader, text):
+    """(what has the text, None), or (None, the number of an Unreadable)."""
+    first, *more = text.split("\n")
+    found = reader(first)
+    return (None, 1) if found is None else (None, 2) if more else (found, None)
+
+
+def read_machine(text):
+    lines = text.split("\n")
+    rows = [read_row(line, k) for k, line in enumerate(lines)]
+    if None in rows:
+        return None, rows.index(None) + 1
+    right = all(
+        [letter for letter, _ in steps] == sorted({letter for letter, _ in steps})
+        and all(state < len(lines) for _, state in steps) for steps, _ in rows)
+    if not right:
+        return None, 0
+    return (tuple(steps for steps, _ in rows), tuple(k for k, (_, end) in enumerate(rows) if end)), None

@@ -65,11 +65,22 @@ SORTERS = """
 >>> [made('stack', (2, 3, 1)), made('bubble', (3, 1, 2)), sorts('popper', (3, 2, 1)), passes('bubble', (2, 3, 1)), least_unsorted('queues', 4)]
 [(2, 1, 3), (1, 2, 3), True, 2, [(3, 2, 1)]]
 """
+SAYINGS = """
+>>> from bannedorders.sayings import is_meant, lot_of, meaning
+>>> [meaning(('both', ('sorted', 'stack'), ('turned', ('list', ((2, 1, 3),))))), lot_of(('either', ('list', ((1, 2),)), ('list', ((2, 1),))), 3)]
+[((2, 3, 1), (3, 1, 2)), [(1, 2, 3), (3, 2, 1)]]
+"""
+# As it stands, with the backslash of the text.
+TEXTS = r"""
+>>> from bannedorders.texts import show_list, show_machine, show_saying, show_word
+>>> [show_list(two), show_word(word_of((2, 1, 3))), show_machine(rising), show_saying(('turned', ('list', ((2, 1),))))]
+['2 3 1, 3 1 2', '1m 1f 1f', '0 : 1l 0, 1f 1\n1 end : -', '(turned (list [2 1]))']
+"""
 # A later section uses the names of those ahead of it.
 SECTIONS = (
     ("patterns", PATTERNS, 4), ("blocks", BLOCKS, 3), ("lists", LISTS, 3), ("slots", SLOTS, 3),
     ("alternations", ALTERNATIONS, 2), ("machines", MACHINES, 3), ("counts", COUNTS, 3), ("rates", RATES, 2),
-    ("ranks", RANKS, 2), ("sorters", SORTERS, 2))
+    ("ranks", RANKS, 2), ("sorters", SORTERS, 2), ("sayings", SAYINGS, 2), ("texts", TEXTS, 2))
 
 
 class Examples(unittest.TestCase):

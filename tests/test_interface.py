@@ -47,7 +47,17 @@ LISTED = {
         "made": "sorter order", "sorts": "sorter order", "list_of": "sorter", "passes": "sorter order",
         "least_unsorted": "sorter n",
     },
+    "sayings": {"is_saying": "told", "meaning": "saying", "lot_of": "saying n", "is_meant": "saying order"},
+    "texts": {
+        "show_number": "a", "show_order": "order", "show_list": "forbidden", "show_word": "word",
+        "show_machine": "machine", "show_saying": "saying",
+    },
+    "readers": {
+        "read_order": "text", "read_list": "text", "read_word": "text", "read_machine": "text", "read_saying": "text",
+    },
 }
+# Of the class Console.
+METHODS = {"keep": "name forbidden", "drop": "name", "undo": "", "forbidden": "name", "names": "", "order": "text"}
 # Machines of the words of rising orders, of one letter or more, and of the word of one thing.
 RISING = (((((1, 1), 0), ((1, 3), 1)), ()), (1,))
 SINGLE = (((((1, 3), 1),), ()), (1,))
@@ -128,6 +138,21 @@ CALLS = (
     ("sorters", "list_of", ("queues",), ((3, 2, 1),)),
     ("sorters", "passes", ("stack", (2, 3, 1)), 2),
     ("sorters", "least_unsorted", ("bubble", 3), [(2, 3, 1), (3, 2, 1)]),
+    ("sayings", "is_saying", (("sorted", "stack"),), True),
+    ("sayings", "meaning", (("turned", ("sorted", "stack")),), ((1, 3, 2),)),
+    ("sayings", "lot_of", (("list", ((2, 1),)), 2), [(1, 2)]),
+    ("sayings", "is_meant", (("sorted", "stack"), (2, 3, 1)), False),
+    ("texts", "show_number", ((-3, 2),), "-3/2"),
+    ("texts", "show_order", ((2, 1),), "2 1"),
+    ("texts", "show_list", (((2, 1), (1,)),), "2 1, 1"),
+    ("texts", "show_word", (((1, 0), (2, 3)),), "1m 2f"),
+    ("texts", "show_machine", (RISING,), "0 : 1l 0, 1f 1\n1 end : -"),
+    ("texts", "show_saying", (("sorted", "stack"),), "(sorted stack)"),
+    ("readers", "read_order", ("2 1",), (2, 1)),
+    ("readers", "read_list", ("2 1, 1",), ((2, 1), (1,))),
+    ("readers", "read_word", ("1m 2f",), ((1, 0), (2, 3))),
+    ("readers", "read_machine", ("0 : 1l 0, 1f 1\n1 end : -",), RISING),
+    ("readers", "read_saying", ("(sorted stack)",), ("sorted", "stack")),
 )
 
 
@@ -170,10 +195,29 @@ class Interface(Checked):
         for section, name, told in (
                 ("patterns", "places", ((1,), (1, 2))), ("patterns", "parts_of", ((1,), 2)),
                 ("blocks", "blocks", ((),)), ("lists", "let_of", (((1,),), 1)), ("slots", "letters", ((1,),)),
-                ("machines", "words", (NEVER, 0)), ("sorters", "least_unsorted", ("stack", 2))):
+                ("machines", "words", (NEVER, 0)), ("sorters", "least_unsorted", ("stack", 2)),
+                ("sayings", "lot_of", (("list", ((1,),)), 1))):
             function = found(section, name)
             function(*told).append("more")
             self.same(function(*told), [])
+
+    def test_console(self):
+        Console = found("consoles", "Console")
+        self.assertTrue(inspect.isclass(Console) and Console.__module__ == "bannedorders.consoles")
+        self.assertEqual(list(inspect.signature(Console).parameters), [])
+        for name, arguments in METHODS.items():
+            # In the class itself, not only in a base class.
+            self.assertEqual(list(inspect.signature(vars(Console)[name]).parameters), ["self"] + arguments.split(), name)
+
+    def test_console_by_position_and_by_name(self):
+        for by_name in (False, True):
+            console = found("consoles", "Console")()
+            for name, told, wanted in (
+                    ("keep", ("a", ((2, 1),)), None), ("forbidden", ("a",), ((2, 1),)), ("names", (), ["a"]),
+                    ("order", ("count a 7",), "1"), ("drop", ("a",), None), ("undo", (), None), ("names", (), ["a"])):
+                call = getattr(console, name)
+                named = dict(reversed(list(zip(METHODS[name].split(), told))))
+                self.same(call(**named) if by_name else call(*told), wanted)
 
 
 if __name__ == "__main__":
