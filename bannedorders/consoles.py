@@ -62,8 +62,11 @@ def part_in(kind, part):
         return read_order(part)
     if kind == "saying":
         return read_saying(part)
-    found = whole_in(part) if kind == "number" else part
-    if found is None or (kind != "number" and not is_name(found)):
+    if kind == "number":
+        found = whole_in(part)
+    else:
+        found = part if is_name(part) else None
+    if found is None:
         raise Unreadable(1)
     return found
 
@@ -105,9 +108,19 @@ def list_made(word, told):
             return inverse_list(told[0])
 
 
+def yes_or_no(mark):
+    """Return the text of True or False."""
+    return "yes" if mark else NO
+
+
 def row_of(numbers):
     """Return the text of some integers, separated by a blank."""
     return " ".join([str(number) for number in numbers])
+
+
+def row_or_no(numbers):
+    """Return the text of some integers, separated by a blank, or of None."""
+    return NO if numbers is None else row_of(numbers)
 
 
 def rule_text(forbidden):
@@ -123,32 +136,23 @@ def rate_text(forbidden):
     return f"{show_number(low)} {show_number(high)}"
 
 
-def is_so(word, told):
-    """Return whether it is so what an order asks that is answered by yes or no, None for another order."""
-    match word:
-        case "lets":
-            return lets(told[0], told[1])
-        case "same":
-            return same(told[0], told[1])
-        case "within":
-            return lies_within(told[0], told[1])
-        case "finite":
-            return is_finite(told[0])
-        case _:
-            return None
-
-
-def found_by(word, told):
-    """Return the text of what an order asks for, None if there is none, by its word and what is told behind it."""
+def answer_to(word, told):
+    """Return the answer to an order that changes nothing, by its word and what is told behind it."""
     match word:
         case "show":
             return show_list(told[0])
+        case "lets":
+            return yes_or_no(lets(told[0], told[1]))
+        case "same":
+            return yes_or_no(same(told[0], told[1]))
+        case "within":
+            return yes_or_no(lies_within(told[0], told[1]))
+        case "finite":
+            return yes_or_no(is_finite(told[0]))
         case "parting":
-            order = parting(told[0], told[1])
-            return None if order is None else show_order(order)
+            return row_or_no(parting(told[0], told[1]))
         case "endless":
-            kind = endless(told[0])
-            return None if kind is None else row_of(kind)
+            return row_or_no(endless(told[0]))
         case "count":
             return str(count(told[0], told[1]))
         case "rule":
@@ -161,15 +165,6 @@ def found_by(word, told):
             return str(place_of(told[0], told[1]))
         case _:
             return show_machine(machine(told[0]))
-
-
-def answer_to(word, told):
-    """Return the answer to an order that changes nothing, by its word and what is told behind it."""
-    mark = is_so(word, told)
-    if mark is not None:
-        return "yes" if mark else NO
-    found = found_by(word, told)
-    return NO if found is None else found
 
 
 class Console:

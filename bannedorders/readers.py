@@ -88,7 +88,7 @@ def row_in(line, state):
 
 
 def part_of(told):
-    """Return the part of a saying that stands in round brackets, between which there are some words and parts."""
+    """Return the part of a saying that stands in round brackets, by the words and parts, one or more, between them."""
     if told[0] != "list" or not all(isinstance(word, str) for word in told):
         return tuple(told)
     # In square brackets: whether they are there is not asked yet.
@@ -99,10 +99,11 @@ def part_of(told):
 def saying_in(line):
     """Return the saying that has a line, None if none has it."""
     held = [[]]
+    # Between two brackets there is at least an empty word.
     for word in line.replace("(", "( ").replace(")", " )").split(" "):
         if word == "(":
             held.append([])
-        elif word == ")" and len(held) > 1 and held[-1]:
+        elif word == ")" and len(held) > 1:
             part = part_of(held.pop())
             held[-1].append(part)
         else:
