@@ -129,6 +129,23 @@ class Rules(Checked):
     def test_rules_of_one_number(self):
         self.same([rule(((2, 1),)), rule(((1, 2),)), rule(((1,),))], [((1,), ((1, 1),))] * 2 + [((1,), ((0, 1),))])
 
+    def test_rules_of_nearly_as_many_numbers_as_the_machine_has_states(self):
+        for forbidden, states, many in (
+                (((2, 3, 1), (3, 2, 1), (1, 2, 3, 4)), 7, 7), (((3, 1, 2), (2, 3, 1, 4), (4, 3, 2, 1)), 7, 7),
+                (((2, 3, 1), (1, 2, 3, 4), (4, 3, 2, 1)), 12, 10),
+                (((3, 2, 1, 4), (3, 4, 2, 1), (4, 1, 2, 3)), 13, 11)):
+            firsts, numbers = rule(forbidden)
+            terms = by_words(forbidden, 60)
+            self.assertEqual([len(machine(forbidden)[0]), len(numbers)], [states, many])
+            self.assertEqual([Fraction(*number) for number in numbers], plain.rule(terms))
+            self.same(firsts, tuple(terms[:many]))
+
+    def test_falling_stretches(self):
+        """Of orders that are sums of falling stretches, each of at most so many things."""
+        for most in range(1, 12):
+            forbidden = TWO + (tuple(range(most + 1, 0, -1)),)
+            self.same(rule(forbidden), (tuple([1] + [2 ** k for k in range(most - 1)]), ((1, 1),) * most))
+
     def test_noughts(self):
         self.same(rule(((1, 2), (2, 1))), ((1, 1), ((0, 1), (0, 1))))
         self.same(rule(((1, 2, 3), (2, 1))), ((1, 1, 1), ((0, 1),) * 3))
