@@ -8,7 +8,7 @@ from bannedorders.lists import (
 from bannedorders.machines import machine
 from bannedorders.ranks import nth, place_of
 from bannedorders.rates import rate
-from bannedorders.readers import read_list, read_order, read_saying, whole_in
+from bannedorders.readers import integer_in, read_list, read_order, read_saying
 from bannedorders.sayings import meaning
 from bannedorders.texts import show_list, show_machine, show_number, show_order
 
@@ -63,7 +63,8 @@ def part_in(kind, part):
     if kind == "saying":
         return read_saying(part)
     if kind == "number":
-        found = whole_in(part)
+        # Below 0 too: what is wrong with such an integer the functions say.
+        found = integer_in(part)
     else:
         found = part if is_name(part) else None
     if found is None:

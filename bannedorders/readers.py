@@ -46,6 +46,15 @@ def whole_in(part):
     return whole if str(whole) == part else None
 
 
+def integer_in(part):
+    """Return the integer, below 0 too, that has a text, None if none has it."""
+    if not part.startswith("-"):
+        return whole_in(part)
+    behind = whole_in(part[1:])
+    # The sign of -0 is needless.
+    return None if behind is None or behind == 0 else -behind
+
+
 def order_in(line):
     """Return the order that has a line, None if none has it."""
     found = all_in(line, " ", whole_in)

@@ -75,6 +75,17 @@ NO_NAMES = (
     None, True, False, 0, 1, "", "abcdefghi", "A", "aB", "a1", "1", "a b", " a", "a ", "a\n", "\n", "a-b", "a_b", "-",
     "\u00e4", "\u00df", b"a", {}, {"a"}, [], ["a"], (), ("a",),
 )
+# What texts are made of, and some signs that they are not.
+SIGNS = " -,()[]:/+_.0123456789mlrfaedstikn~\n"
+
+
+def bent(text):
+    """All texts that come of one by one sign taken away, changed or put in."""
+    for at in range(len(text) + 1):
+        for sign in SIGNS:
+            yield text[:at] + sign + text[at:]
+            yield text[:at] + sign + text[at + 1:]
+        yield text[:at] + text[at + 1:]
 
 
 class Checked(unittest.TestCase):

@@ -5,7 +5,7 @@ import re
 import unittest
 
 import plain
-from checking import NO_LISTS, NO_NAMES, Checked
+from checking import NO_LISTS, NO_NAMES, Checked, bent
 from samples import DEEP, LARGE, LISTS, LITTLE
 
 from bannedorders.consoles import Console
@@ -20,7 +20,8 @@ from bannedorders.texts import show_list, show_machine, show_order, show_saying
 
 TWO = ((2, 3, 1), (3, 1, 2))
 KINDS = ((-1, -1), (-1, 1), (1, -1), (1, 1))
-NAME, WHOLE = "([a-z]{1,8})", f"({plain.NUMBER})"
+# Below 0 too, but the sign of -0 is needless.
+NAME, INTEGER = "([a-z]{1,8})", "(0|-?[1-9][0-9]{0,8})"
 # How the texts look, each with what reads its parts, where these are no names.
 TEXTS = {
     "list": (f"list {NAME} (.*)", plain.read_list), "say": (f"say {NAME} (.*)", plain.read_saying),
@@ -30,8 +31,8 @@ TEXTS = {
     "show": (f"show {NAME}", None), "lets": (f"lets {NAME} (.*)", plain.read_order),
     "same": (f"same {NAME} {NAME}", None), "within": (f"within {NAME} {NAME}", None), "finite": (f"finite {NAME}", None),
     "parting": (f"parting {NAME} {NAME}", None), "endless": (f"endless {NAME}", None),
-    "count": (f"count {NAME} {WHOLE}", None), "rule": (f"rule {NAME}", None), "rate": (f"rate {NAME}", None),
-    "nth": (f"nth {NAME} {WHOLE} {WHOLE}", None), "place": (f"place {NAME} (.*)", plain.read_order),
+    "count": (f"count {NAME} {INTEGER}", None), "rule": (f"rule {NAME}", None), "rate": (f"rate {NAME}", None),
+    "nth": (f"nth {NAME} {INTEGER} {INTEGER}", None), "place": (f"place {NAME} (.*)", plain.read_order),
     "machine": (f"machine {NAME}", None), "names": ("names", None),
 }
 
@@ -57,6 +58,12 @@ def parted(one, other):
 
 class Refused(Exception):
     """What a plain model refuses a text with: the class of the error, and its value."""
+
+
+def not_below(n):
+    if n < 0:
+        raise Refused(InvalidNumber, n)
+    return n
 
 
 class Model:
@@ -160,7 +167,7 @@ class Model:
         return forbidden
 
     def do_count(self, name, n):
-        return str(len(plain.lot(self.with_machine(name), int(n))))
+        return str(len(plain.lot(self.with_machine(name), not_below(int(n)))))
 
     def do_rule(self, name):
         firsts, numbers = rule(self.with_machine(name))
@@ -170,8 +177,8 @@ class Model:
         return " ".join(fraction(number) for number in rate(self.with_machine(name))[1:])
 
     def do_nth(self, name, n, i):
-        found = plain.ranked(self.with_machine(name), int(n))
-        if int(i) >= len(found):
+        found = plain.ranked(self.with_machine(name), not_below(int(n)))
+        if not_below(int(i)) >= len(found):
             raise Refused(InvalidNumber, int(i))
         return line(found[int(i)]) or "-"
 
@@ -191,8 +198,13 @@ KEPT += ((), ((2, 3, 1),), ((3, 2, 1),), ((2, 3, 1), (2, 1, 3), (2, 3, 1)))
 WRONG = (
     "", " ", "list", "list a", "list a ", "list a 2 2", "list A 2 1", "list a  2 1", "list abcdefghi 2 1", "list a1 2 1",
     "drop", "drop ", "drop a b", "drop A", "undo ", "undo a", "Undo", "names ", "names a", "show", "show a b", "show  a",
-    " show a", "show a ", "count a", "count a -1", "count a 01", "count a 1234567890", "count a b", "count a 1 1",
-    "nth a 1", "nth a 1 1 1", "nth a 1 -", "both a b", "both a b b b", "both a b B", "turned a", "turned a b b",
+    " show a", "show a ", "count a", "count a 01", "count a 1234567890", "count a b", "count a 1 1",
+    "count a -0", "count a +1", "count a -01", "count a --1", "count a -+1", "count a - 1", "count a -", "count a 1-",
+    "count a -1 ", "count a  -1", "count a -1\n", "count a -1234567890", "count a -b", "count a -1 -1", "count a -1.0",
+    "nth a -1", "nth a -1 -1 -1", "nth a -0 0", "nth a 3 -0", "nth a -03 0", "nth a 3 -02", "nth a - 1", "nth a +3 -1",
+    "nth a -1 x", "nth a x -1", "nth a -1234567890 0", "nth a 3 -1234567890", "nth a -1 -1\n", "list a -1",
+    "list a -2 -1", "lets a -1", "lets a 2 -1", "place a -1", "say a (list [-1])", "names -1", "undo -1", "show -1",
+    "finite a -1", "nth a 1", "nth a 1 1 1", "nth a 1 -", "both a b", "both a b b b", "both a b B", "turned a", "turned a b b",
     "lets a", "lets a 1 1", "lets a ", "lets a (list [-])", "place a 2", "say a", "say a stack", "say a (sorted queue)",
     "say a (list [2 1]", "keep a 2 1", "least a", "parting a", "machine", "rate a b", "names\n", "undo\n", "\n", "\nundo",
     "list a 2 1\n", "list a 2 1\n3 1 2", "drop a\ndrop a", "count a 5\n", "show a\n", "say a (sorted stack)\n", "rule a \n",
@@ -209,8 +221,8 @@ def some_text(chance):
         f"say {a} {show_saying(chance.choice(LITTLE))}", f"say {a} (turned {show_saying(chance.choice(LITTLE))})",
         f"both {a} {b} {c}", f"turned {a} {b}", f"mirrored {a} {b}", f"inverse {a} {b}", f"drop {a}", f"drop {b}", "undo",
         "undo", f"show {a}", f"lets {a} {show_order(order)}", f"same {a} {b}", f"within {a} {b}", f"finite {a}",
-        f"parting {a} {b}", f"endless {a}", f"count {a} {chance.randint(0, 5)}", f"rule {a}", f"rate {a}",
-        f"nth {a} {chance.randint(0, 4)} {chance.randint(0, 3)}", f"place {a} {show_order(order)}", f"machine {a}",
+        f"parting {a} {b}", f"endless {a}", f"count {a} {chance.randint(-2, 5)}", f"rule {a}", f"rate {a}",
+        f"nth {a} {chance.randint(-1, 4)} {chance.randint(-1, 3)}", f"place {a} {show_order(order)}", f"machine {a}",
         "names", chance.choice(WRONG)))
 
 
@@ -445,7 +457,9 @@ class Changes(Checked):
         for call, told in (
                 (console.keep, ("A", TWO)), (console.keep, ("a", [])), (console.drop, ("c",)), (console.forbidden, ("c",)),
                 (console.order, ("drop c",)), (console.order, ("list a 2 2",)), (console.order, ("both a a c",)),
-                (console.order, ("turned c c",)), (console.order, ("count b 3",)), (console.order, ("nth a 3 4",))):
+                (console.order, ("turned c c",)), (console.order, ("count b 3",)), (console.order, ("nth a 3 4",)),
+                (console.order, ("count a -1",)), (console.order, ("nth a -1 0",)), (console.order, ("nth a 3 -1",)),
+                (console.order, ("count c -1",)), (console.order, ("count b -1",))):
             with self.assertRaises(OrderError):
                 call(*told)
             self.same([console.names(), console.forbidden("a"), console.forbidden("b")], [["a", "b"], TWO, ()])
@@ -513,7 +527,8 @@ class Wrong(Checked):
         for text, name in (
                 ("show b", "b"), ("drop b", "b"), ("both a b c", "b"), ("both b a c", "c"), ("either c a d", "d"),
                 ("turned a b", "b"), ("same b c", "b"), ("same a c", "c"), ("within c b", "c"), ("parting a b", "b"),
-                ("count b 3", "b"), ("nth b 3 100", "b"), ("lets b 1", "b"), ("place b 2 3 1", "b"), ("rate b", "b")):
+                ("count b 3", "b"), ("nth b 3 100", "b"), ("count b -1", "b"), ("nth b -1 0", "b"), ("nth b 3 -1", "b"),
+                ("nth b -1 -1", "b"), ("lets b 1", "b"), ("place b 2 3 1", "b"), ("rate b", "b")):
             self.refused_with(UnknownName, name, console.order, text)
 
     def test_those_of_the_functions(self):
@@ -527,10 +542,53 @@ class Wrong(Checked):
                 (NotLet, (2, 3, 1), "place a 2 3 1")):
             self.refused_with(error, value, console.order, text)
 
+    def test_integers_below_0(self):
+        """They are integers of a text as others are: what is wrong with them is what the functions say."""
+        console = Console()
+        kept = {"a": TWO, "s": ((2, 3, 1),)}
+        for name, forbidden in kept.items():
+            console.keep(name, forbidden)
+        for error, value, text in (
+                (InvalidNumber, -1, "count a -1"), (InvalidNumber, -10, "count a -10"),
+                (InvalidNumber, -999999999, "count a -999999999"), (InvalidNumber, -2, "nth a 3 -2"),
+                (InvalidNumber, -1, "nth a 0 -1"), (InvalidNumber, -999999999, "nth a 3 -999999999"),
+                (InvalidNumber, -7, "nth a -7 0"), (InvalidNumber, -999999999, "nth a -999999999 0"),
+                (InvalidNumber, -7, "nth a -7 -8"), (InvalidNumber, -1, "nth a -1 -999999999"),
+                (InvalidNumber, -1, "nth a -1 100"), (NoMachine, (1, -1), "count s -1"),
+                (NoMachine, (1, -1), "nth s -1 0"), (NoMachine, (1, -1), "nth s 3 -1"),
+                (NoMachine, (1, -1), "nth s -1 -2"), (UnknownName, "x", "count x -1"), (UnknownName, "x", "nth x -1 0"),
+                (UnknownName, "x", "nth x 3 -1"), (UnknownName, "x", "nth x -1 -2")):
+            self.refused_with(error, value, console.order, text)
+            self.same({name: console.forbidden(name) for name in console.names()}, kept)
+
+    def test_bent_integers(self):
+        """Each is the integer as it is shown, or the text is none; of the rising orders there is one of each length."""
+        console = Console()
+        console.keep("a", ((2, 1),))
+        met = set()
+        for shown in ("-10", "-1", "-999999999", "0", "12"):
+            for part in bent(shown):
+                n = int(part) if re.fullmatch(INTEGER, part) else None
+                # Longer orders than these are more than there is time for.
+                if n is not None and n > 200:
+                    continue
+                met.add(n)
+                for text, wanted in (
+                        (f"count a {part}", "1"), (f"nth a {part} 0", line(range(1, (n or 0) + 1)) or "-"),
+                        (f"nth a 3 {part}", "1 2 3" if n == 0 else None)):
+                    if n is None:
+                        self.refused(Unorderly, text, console.order, text)
+                    elif n < 0 or wanted is None:
+                        self.refused_with(InvalidNumber, n, console.order, text)
+                    else:
+                        self.same(console.order(text), wanted)
+        self.assertTrue({None, 0, 1, 10, 112, -1, -2, -100, -99999999, -999999991} <= met)
+
     def test_texts_first(self):
         """A wrong text is wrong whatever its names are."""
         console = Console()
-        for text in ("lets b 2 2", "count b x", "nth b 3 -1", "both a b", "place b 0", "drop B", "show b\nnames"):
+        for text in ("lets b 2 2", "count b x", "count b -01", "nth b 3 -0", "nth b -0 3", "both a b", "place b 0",
+                     "drop B", "show b\nnames"):
             self.refused(Unorderly, text, console.order, text)
 
     def test_what_is_no_text(self):

@@ -4,7 +4,7 @@ import random
 import unittest
 
 import plain
-from checking import Checked
+from checking import Checked, bent
 from samples import DEEP, LARGE, LISTS, SAYINGS
 
 from bannedorders.errors import Unreadable
@@ -18,7 +18,6 @@ OF_ONE_LINE = (
     (read_order, show_order, plain.read_order), (read_list, show_list, plain.read_list),
     (read_word, show_word, plain.read_word), (read_saying, show_saying, plain.read_saying))
 READERS = (read_order, read_list, read_word, read_saying, read_machine)
-SIGNS = " -,()[]:/+_.0123456789mlrfaedstikn~\n"
 ORDERS = ((), (1,), (2, 1), (2, 4, 1, 3), (11, 1, 2, 3, 10, 4, 9, 5, 8, 6, 7))
 FORBIDDEN = ((), ((1,),), ((2, 1),), ((2, 3, 1), (3, 1, 2)), ((1, 2), (1, 2), (3, 2, 1, 4), (1,)))
 WORDS = ((), ((1, 3),), ((1, 0), (2, 1), (1, 2), (1, 3)), ((10, 0), (999999999, 3), (1, 1)))
@@ -26,15 +25,6 @@ MACHINES = (
     (((),), ()), (((),), (0,)), (((((1, 1), 0), ((1, 3), 1)), ()), (1,)),
     (((((1, 0), 1), ((10, 2), 0)), (((1, 3), 2),), ()), (0, 2)),
     (tuple((((1, 0), (k + 1) % 12),) for k in range(12)), (3, 11)))
-
-
-def bent(text):
-    """All texts that come of one by one sign taken away, changed or put in."""
-    for at in range(len(text) + 1):
-        for sign in SIGNS:
-            yield text[:at] + sign + text[at:]
-            yield text[:at] + sign + text[at + 1:]
-        yield text[:at] + text[at + 1:]
 
 
 class Reading(Checked):
@@ -112,17 +102,17 @@ class OneLine(Reading):
     def test_orders(self):
         self.same([read_order("-"), read_order("1"), read_order("2 4 1 3")], [(), (1,), (2, 4, 1, 3)])
         self.unread(read_order, 1, "", "0", "2", "1 1", "1 3", "2  1", " 2 1", "2 1 ", "02 1", "+1", "-1", "1,2", "1, 2",
-                    "- 1", "--", "1\t2", "1.0", "1e0", "1_0", "a", "2 1 -", "1 2 1234567890", "0 1")
+                    "-2 -1", "1 -2", "- 1", "--", "1\t2", "1.0", "1e0", "1_0", "a", "2 1 -", "1 2 1234567890", "0 1")
 
     def test_lists(self):
         self.same([read_list("-"), read_list("1"), read_list("2 1, 1 2, 2 1")], [(), ((1,),), ((2, 1), (1, 2), (2, 1))])
         self.unread(read_list, 1, "", ",", "2 1,", "2 1, ", ", 2 1", "2 1,1 2", "2 1,  1 2", "2 1 , 1 2", "-, 2 1",
-                    "2 1, -", "- ", "2 1, 1 1", "2 1; 1 2", "[2 1]", "2 1, 0")
+                    "2 1, -", "- ", "2 1, 1 1", "2 1; 1 2", "[2 1]", "2 1, 0", "-1", "2 1, -1", "-2 -1")
 
     def test_words(self):
         self.same([read_word("-"), read_word("1m 2f 7l 1r")], [(), ((1, 0), (2, 3), (7, 1), (1, 2))])
         self.unread(read_word, 1, "", "m", "1", "0m", "01m", "1m1f", "1m  1f", " 1m", "1m ", "1M", "1a", "1 m", "m1", "1mm",
-                    "1m, 1f", "-1m", "+1m", "- 1m", "1m -", "1234567890m")
+                    "1m, 1f", "-1m", "1m -1f", "+1m", "- 1m", "1m -", "1234567890m")
 
     def test_integers_of_nine_and_of_ten_digits(self):
         self.same(read_word("999999999m"), ((999999999, 0),))
